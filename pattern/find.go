@@ -1,0 +1,125 @@
+package pattern
+
+import "ribbon/api"
+
+// notes has from where to where the pattern went, and then each group.
+type notes [2 + 2*api.MaxGroups]int
+
+func noted(from int) notes {
+	var n notes
+	for i := range n {
+		n[i] = -1
+	}
+	n[0] = from
+	return n
+}
+
+// thread is one way, as far as it has come.
+//
+// taken is how many of the turns that it is within have taken a byte. These are always the outermost ones, as what an inner turn takes its outer ones take too: so one number tells it for all of them.
+type thread struct {
+	at    int
+	taken int
+	notes notes
+}
+
+// finder follows all ways at once. Their order in the lists is that of the ways, those from earlier places ahead.
+type finder struct {
+	*Pattern
+	text  string
+	place int
+	here  []thread
+	ahead []thread // those that took the byte at this place
+	left  []thread // ways not gone yet at this place, the next one last
+	seen  []int    // for each instruction and taken: one more than the place where it was met last
+	found bool
+	best  notes
+}
+
+// Find tells from where to where the pattern goes in the text, and then each group; or nil.
+func (p *Pattern) Find(text string) []int {
+	f := finder{Pattern: p, text: text, seen: make([]int, len(p.code)*(p.deepest+1))}
+	for ; f.place <= len(text); f.place++ {
+		if !f.found {
+			f.here = append(f.here, thread{at: p.begin, notes: noted(f.place)})
+		}
+		if len(f.here) == 0 {
+			break
+		}
+		f.goOn()
+	}
+	if !f.found {
+		return nil
+	}
+	list := make([]int, 2+2*p.groups)
+	copy(list, f.best[:])
+	return list
+}
+
+func (f *finder) goOn() {
+	for i := range f.here {
+		// What began behind the place of something found can not better it.
+		if f.found && f.here[i].notes[0] > f.best[0] {
+			break
+		}
+		f.follow(f.here[i])
+	}
+	f.here, f.ahead = f.ahead, f.here[:0]
+}
+
+func (f *finder) follow(t thread) {
+	f.left = append(f.left[:0], t)
+	for len(f.left) > 0 {
+		last := len(f.left) - 1
+		t = f.left[last]
+		f.left = f.left[:last]
+		for f.first(&t) && f.step(&t) {
+		}
+	}
+}
+
+// first tells whether no way ahead of this one came here: another one could go on only as that does.
+func (f *finder) first(t *thread) bool {
+	seen := &f.seen[t.at*(f.deepest+1)+t.taken]
+	if *seen == f.place+1 {
+		return false
+	}
+	*seen = f.place + 1
+	return true
+}
+
+// step does one instruction; it tells whether the way goes on at this place.
+func (f *finder) step(t *thread) bool {
+	in := &f.code[t.at]
+	switch in.kind {
+	case kindByte:
+		if f.place < len(f.text) && in.bytes.has(f.text[f.place]) {
+			f.ahead = append(f.ahead, thread{in.next, in.depth, t.notes})
+		}
+		return false
+	case kindBegin:
+		if f.place != 0 {
+			return false
+		}
+	case kindEnd:
+		if f.place != len(f.text) {
+			return false
+		}
+	case kindNote:
+		t.notes[in.slot] = f.place
+	case kindSplit:
+		f.left = append(f.left, thread{in.other, t.taken, t.notes})
+	case kindTurn:
+		if t.taken <= in.depth {
+			return false
+		}
+		t.taken = in.depth
+	case kindFound:
+		// A later place is a better one: who comes here did not begin behind the best.
+		f.found, f.best = true, t.notes
+		f.best[1] = f.place
+		return false
+	}
+	t.at = in.next
+	return true
+}

@@ -1,0 +1,43 @@
+// Package ribbon: an editor that goes over lines by a script: see DOC.md.
+package ribbon
+
+import "ribbon/api"
+
+// Match finds a pattern in a text (P3, P4).
+func Match(pattern string, text string) ([]int, api.Errno, int) {
+	if len(text) > api.MaxText {
+		return nil, api.ErrLong, 0
+	}
+	read, err, place := readPattern(pattern)
+	if err != api.OK {
+		return nil, err, place
+	}
+	return read.Find(text), api.OK, 0
+}
+
+// Program is a script that was read.
+type Program struct{}
+
+// Compile reads a script (P5).
+func Compile(script string) (*Program, api.Errno, int) { return nil, api.OK, 0 }
+
+// Text tells the script anew (P6).
+func (p *Program) Text() string { return "" }
+
+// Ahead tells whether it must know what comes behind a line (P6).
+func (p *Program) Ahead() bool { return false }
+
+// Start begins to edit (P7).
+func (p *Program) Start() *Editor { return nil }
+
+// Editor goes over lines.
+type Editor struct{}
+
+// Feed takes bytes (P8).
+func (e *Editor) Feed(data string) api.Reply { return api.Reply{} }
+
+// End says that there are no more (P8).
+func (e *Editor) End() api.Reply { return api.Reply{} }
+
+// Files tells what was written to names (P9).
+func (e *Editor) Files() []api.File { return nil }
