@@ -3,6 +3,7 @@ package pattern
 
 import (
 	"ribbon/api"
+	"ribbon/cursor"
 	"ribbon/fault"
 )
 
@@ -47,12 +48,12 @@ type Pattern struct {
 	deepest int
 }
 
-// Read reads a pattern. What it can not read it gives up by a panic with a fault.Fault.
-func Read(source string) *Pattern {
-	if len(source) > api.MaxPattern {
-		panic(fault.Fault{Err: api.ErrLong, Place: 0})
+// Read reads the pattern that stands in a source, from a place to the source's end. What it can not read it gives up by a panic with a fault.Fault, with a place of the source.
+func Read(source string, from int) *Pattern {
+	if len(source)-from > api.MaxPattern {
+		panic(fault.Fault{Err: api.ErrLong, Place: from})
 	}
-	r := reader{source: source}
+	r := reader{Cursor: cursor.Cursor{Source: source, At: from, Err: api.ErrPattern}}
 	whole := r.whole()
 	if whole.size() > api.MaxSize {
 		panic(fault.Fault{Err: api.ErrSize, Place: len(source)})
@@ -60,4 +61,9 @@ func Read(source string) *Pattern {
 	var l list
 	begin := whole.emit(&l, l.add(instruction{kind: kindFound}))
 	return &Pattern{l.code, begin, r.groups, l.deepest}
+}
+
+// Groups tells how many groups the pattern has.
+func (p *Pattern) Groups() int {
+	return p.groups
 }

@@ -4,7 +4,7 @@ import (
 	"strings"
 
 	"ribbon/api"
-	"ribbon/fault"
+	"ribbon/cursor"
 )
 
 const (
@@ -17,55 +17,22 @@ const (
 	classEscaped = classSpecial + "^/"
 )
 
-// reader goes through a pattern once, from the front; at is the place of the byte that it looks at.
 type reader struct {
-	source string
-	at     int
+	cursor.Cursor
 	groups int
-}
-
-func (r *reader) giveUp() {
-	panic(fault.Fault{Err: api.ErrPattern, Place: r.at})
-}
-
-func (r *reader) ended() bool {
-	return r.at == len(r.source)
-}
-
-func (r *reader) sees(b byte) bool {
-	return !r.ended() && r.source[r.at] == b
-}
-
-func (r *reader) seesDigit() bool {
-	return !r.ended() && '0' <= r.source[r.at] && r.source[r.at] <= '9'
-}
-
-// take goes past b, if it stands here.
-func (r *reader) take(b byte) bool {
-	if !r.sees(b) {
-		return false
-	}
-	r.at++
-	return true
-}
-
-func (r *reader) expect(b byte) {
-	if !r.take(b) {
-		r.giveUp()
-	}
 }
 
 func (r *reader) whole() node {
 	all := r.branches()
-	if !r.ended() {
-		r.giveUp()
+	if !r.Ended() {
+		r.GiveUp()
 	}
 	return all
 }
 
 func (r *reader) branches() node {
 	all := branches{r.branch()}
-	for r.take('|') {
+	for r.Take('|') {
 		all = append(all, r.branch())
 	}
 	return all
@@ -73,7 +40,7 @@ func (r *reader) branches() node {
 
 func (r *reader) branch() node {
 	var pieces row
-	for !r.ended() && !r.sees('|') && !r.sees(')') {
+	for !r.Ended() && !r.Sees('|') && !r.Sees(')') {
 		pieces = append(pieces, r.piece())
 	}
 	return pieces
@@ -81,10 +48,10 @@ func (r *reader) branch() node {
 
 func (r *reader) piece() node {
 	// A repeat behind one of these two is met as an atom, and refused there.
-	if r.take('^') {
+	if r.Take('^') {
 		return edge{kindBegin}
 	}
-	if r.take('$') {
+	if r.Take('$') {
 		return edge{kindEnd}
 	}
 	return r.repeated(r.atom())
@@ -92,11 +59,11 @@ func (r *reader) piece() node {
 
 func (r *reader) atom() node {
 	switch {
-	case r.sees('('):
+	case r.Sees('('):
 		return r.group()
-	case r.take('.'):
+	case r.Take('.'):
 		return one{set{}.others()}
-	case r.take('['):
+	case r.Take('['):
 		return one{r.class()}
 	}
 	b := r.byteOf(special, escaped)
@@ -107,48 +74,48 @@ func (r *reader) atom() node {
 
 func (r *reader) group() node {
 	if r.groups == api.MaxGroups {
-		r.giveUp()
+		r.GiveUp()
 	}
 	r.groups++
 	number := r.groups
-	r.expect('(')
+	r.Expect('(')
 	inner := r.branches()
-	r.expect(')')
+	r.Expect(')')
 	return group{number, inner}
 }
 
 // byteOf reads a byte that is none of barred, or a backslash and what may stand behind it.
 func (r *reader) byteOf(barred, behind string) byte {
-	if r.take('\\') {
+	if r.Take('\\') {
 		return r.escape(behind)
 	}
-	if r.ended() || r.sees('\n') || strings.IndexByte(barred, r.source[r.at]) >= 0 {
-		r.giveUp()
+	if r.Ended() || r.Sees('\n') || strings.IndexByte(barred, r.Source[r.At]) >= 0 {
+		r.GiveUp()
 	}
-	r.at++
-	return r.source[r.at-1]
+	r.At++
+	return r.Source[r.At-1]
 }
 
 func (r *reader) escape(behind string) byte {
 	switch {
-	case r.take('n'):
+	case r.Take('n'):
 		return '\n'
-	case r.take('t'):
+	case r.Take('t'):
 		return '\t'
 	}
-	if r.ended() || strings.IndexByte(behind, r.source[r.at]) < 0 {
-		r.giveUp()
+	if r.Ended() || strings.IndexByte(behind, r.Source[r.At]) < 0 {
+		r.GiveUp()
 	}
-	r.at++
-	return r.source[r.at-1]
+	r.At++
+	return r.Source[r.At-1]
 }
 
 // class reads what stands behind the bracket that opens it.
 func (r *reader) class() set {
-	none := r.take('^')
+	none := r.Take('^')
 	var s set
 	r.item(&s)
-	for !r.take(']') {
+	for !r.Take(']') {
 		r.item(&s)
 	}
 	if none {
@@ -158,21 +125,21 @@ func (r *reader) class() set {
 }
 
 func (r *reader) item(s *set) {
-	if r.take('[') {
-		r.expect(':')
+	if r.Take('[') {
+		r.Expect(':')
 		s.addSpans(r.name())
-		r.expect(':')
-		r.expect(']')
+		r.Expect(':')
+		r.Expect(']')
 		return
 	}
 	first := r.byteOf(classSpecial, classEscaped)
 	last := first
-	if r.take('-') {
-		at := r.at
+	if r.Take('-') {
+		at := r.At
 		last = r.byteOf(classSpecial, classEscaped)
 		if last < first {
-			r.at = at
-			r.giveUp()
+			r.At = at
+			r.GiveUp()
 		}
 	}
 	s.add(first, last)
@@ -180,14 +147,14 @@ func (r *reader) item(s *set) {
 
 // name reads a NAME byte by byte, as it must give up at the first with which none begins; it tells its spans.
 func (r *reader) name() string {
-	from := r.at
+	from := r.At
 	for {
-		if r.ended() || !beginsName(r.source[from:r.at+1]) {
-			r.giveUp()
+		if r.Ended() || !beginsName(r.Source[from:r.At+1]) {
+			r.GiveUp()
 		}
-		r.at++
+		r.At++
 		for i := range names {
-			if names[i].name == r.source[from:r.at] {
+			if names[i].name == r.Source[from:r.At] {
 				return names[i].spans
 			}
 		}
@@ -206,13 +173,13 @@ func beginsName(text string) bool {
 // repeated reads the repeat behind an atom, if there is one.
 func (r *reader) repeated(atom node) node {
 	switch {
-	case r.take('*'):
+	case r.Take('*'):
 		return repeat{atom, 0, endless}
-	case r.take('+'):
+	case r.Take('+'):
 		return repeat{atom, 1, endless}
-	case r.take('?'):
+	case r.Take('?'):
 		return repeat{atom, 0, 1}
-	case r.take('{'):
+	case r.Take('{'):
 		least, most := r.bounds()
 		return repeat{atom, least, most}
 	}
@@ -223,38 +190,38 @@ func (r *reader) repeated(atom node) node {
 func (r *reader) bounds() (least, most int) {
 	least = r.number()
 	most = least
-	if r.take(',') {
+	if r.Take(',') {
 		most = r.upper(least)
 	}
-	r.expect('}')
+	r.Expect('}')
 	return least, most
 }
 
 func (r *reader) upper(least int) int {
-	if r.sees('}') {
+	if r.Sees('}') {
 		return endless
 	}
 	most := r.number()
 	// A digit more, or the pattern's end, is a fault of its own, and further on.
-	if most < least && !r.ended() && !r.seesDigit() {
-		r.at--
-		r.giveUp()
+	if most < least && !r.Ended() && !r.SeesDigit() {
+		r.At--
+		r.GiveUp()
 	}
 	return most
 }
 
 // number reads one or two digits.
 func (r *reader) number() int {
-	if !r.seesDigit() {
-		r.giveUp()
+	if !r.SeesDigit() {
+		r.GiveUp()
 	}
 	value := 0
-	for digits := 0; digits < 2 && r.seesDigit(); digits++ {
-		value = 10*value + int(r.source[r.at]-'0')
+	for digits := 0; digits < 2 && r.SeesDigit(); digits++ {
+		value = 10*value + int(r.Source[r.At]-'0')
 		if value > api.MaxRepeat {
-			r.giveUp()
+			r.GiveUp()
 		}
-		r.at++
+		r.At++
 	}
 	return value
 }

@@ -244,7 +244,7 @@ func find(p part, groups int, text string) (list []int, ok bool) {
 
 func sizeFault(source string) (given fault.Fault) {
 	defer func() { given, _ = recover().(fault.Fault) }()
-	Read(source)
+	Read(source, 0)
 	return given
 }
 
@@ -266,7 +266,7 @@ func TestWaysOneByOne(t *testing.T) {
 			}
 			continue
 		}
-		read := Read(source)
+		read := Read(source, 0)
 		for range 4 {
 			text := m.text()
 			want, ok := find(p, m.groups, text)

@@ -4,19 +4,28 @@ import (
 	"ribbon/api"
 	"ribbon/fault"
 	"ribbon/pattern"
+	"ribbon/script"
 )
 
-// readPattern makes an answer of a reader's giving up.
-func readPattern(source string) (read *pattern.Pattern, err api.Errno, place int) {
+func readPattern(source string) (*pattern.Pattern, api.Errno, int) {
+	return caught(func() *pattern.Pattern { return pattern.Read(source, 0) })
+}
+
+func readScript(source string) (*script.Script, api.Errno, int) {
+	return caught(func() *script.Script { return script.Read(source) })
+}
+
+// caught makes an answer of a reader's giving up.
+func caught[T any](read func() *T) (result *T, err api.Errno, place int) {
 	defer func() {
 		switch given := recover().(type) {
 		case nil:
 		case fault.Fault:
-			read, err, place = nil, given.Err, given.Place
+			result, err, place = nil, given.Err, given.Place
 		default:
-			// It is no fault of the pattern, and must not look like an answer.
+			// It is no fault of what was read, and must not look like an answer.
 			panic(given)
 		}
 	}()
-	return pattern.Read(source), api.OK, 0
+	return read(), api.OK, 0
 }

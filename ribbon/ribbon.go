@@ -1,7 +1,10 @@
 // Package ribbon: an editor that goes over lines by a script: see DOC.md.
 package ribbon
 
-import "ribbon/api"
+import (
+	"ribbon/api"
+	"ribbon/script"
+)
 
 // Match finds a pattern in a text (P3, P4).
 func Match(pattern string, text string) ([]int, api.Errno, int) {
@@ -16,16 +19,29 @@ func Match(pattern string, text string) ([]int, api.Errno, int) {
 }
 
 // Program is a script that was read.
-type Program struct{}
+type Program struct{ script script.Script }
 
 // Compile reads a script (P5).
-func Compile(script string) (*Program, api.Errno, int) { return nil, api.OK, 0 }
+func Compile(script string) (*Program, api.Errno, int) {
+	read, err, place := readScript(script)
+	if err != api.OK {
+		return nil, err, place
+	}
+	return &Program{*read}, api.OK, 0
+}
 
 // Text tells the script anew (P6).
-func (p *Program) Text() string { return "" }
+func (p *Program) Text() string {
+	if p == nil {
+		return ""
+	}
+	return p.script.Text()
+}
 
 // Ahead tells whether it must know what comes behind a line (P6).
-func (p *Program) Ahead() bool { return false }
+func (p *Program) Ahead() bool {
+	return p != nil && p.script.Ahead()
+}
 
 // Start begins to edit (P7).
 func (p *Program) Start() *Editor { return nil }
