@@ -1,6 +1,11 @@
 package pattern
 
-import "ribbon/api"
+import (
+	"iter"
+	"slices"
+
+	"ribbon/api"
+)
 
 // notes has from where to where the pattern went, and then each group.
 type notes [2 + 2*api.MaxGroups]int
@@ -28,35 +33,58 @@ type finder struct {
 	*Pattern
 	text  string
 	place int
+	turn  int // how many places were gone through; one may be again, when more is looked for
 	here  []thread
 	ahead []thread // those that took the byte at this place
 	left  []thread // ways not gone yet at this place, the next one last
-	seen  []int    // for each instruction and taken: one more than the place where it was met last
+	seen  []int    // for each instruction and taken: the turn in which it was met last
 	found bool
 	best  notes
 }
 
 // Find tells from where to where the pattern goes in the text, and then each group; or nil.
 func (p *Pattern) Find(text string) []int {
-	f := finder{Pattern: p, text: text, seen: make([]int, len(p.code)*(p.deepest+1))}
-	for ; f.place <= len(text); f.place++ {
+	for place := range p.Places(text) {
+		return slices.Clone(place)
+	}
+	return nil
+}
+
+// Places goes over all that is found in the text, one behind the other, and tells of each what Find tells of the first. Such a list is good until the next one comes.
+func (p *Pattern) Places(text string) iter.Seq[[]int] {
+	return func(yield func([]int) bool) {
+		f := finder{Pattern: p, text: text, seen: make([]int, len(p.code)*(p.deepest+1))}
+		from, end := 0, -1
+		for f.search(from) {
+			if f.best[0] == end && f.best[1] == end {
+				from = end + 1
+				continue
+			}
+			from, end = f.best[1], f.best[1]
+			if !yield(f.best[:2+2*p.groups]) {
+				return
+			}
+		}
+	}
+}
+
+// search looks for the first place from this one on, and tells whether there is one.
+func (f *finder) search(from int) bool {
+	f.found = false
+	for f.place = from; f.place <= len(f.text); f.place++ {
 		if !f.found {
-			f.here = append(f.here, thread{at: p.begin, notes: noted(f.place)})
+			f.here = append(f.here, thread{at: f.begin, notes: noted(f.place)})
 		}
 		if len(f.here) == 0 {
 			break
 		}
 		f.goOn()
 	}
-	if !f.found {
-		return nil
-	}
-	list := make([]int, 2+2*p.groups)
-	copy(list, f.best[:])
-	return list
+	return f.found
 }
 
 func (f *finder) goOn() {
+	f.turn++
 	for i := range f.here {
 		// What began behind the place of something found can not better it.
 		if f.found && f.here[i].notes[0] > f.best[0] {
@@ -81,10 +109,10 @@ func (f *finder) follow(t thread) {
 // first tells whether no way ahead of this one came here: another one could go on only as that does.
 func (f *finder) first(t *thread) bool {
 	seen := &f.seen[t.at*(f.deepest+1)+t.taken]
-	if *seen == f.place+1 {
+	if *seen == f.turn {
 		return false
 	}
-	*seen = f.place + 1
+	*seen = f.turn
 	return true
 }
 

@@ -3,6 +3,7 @@ package ribbon
 
 import (
 	"ribbon/api"
+	"ribbon/edit"
 	"ribbon/script"
 )
 
@@ -44,16 +45,41 @@ func (p *Program) Ahead() bool {
 }
 
 // Start begins to edit (P7).
-func (p *Program) Start() *Editor { return nil }
+func (p *Program) Start() *Editor {
+	if p == nil {
+		return nil
+	}
+	return &Editor{edit.New(&p.script)}
+}
 
 // Editor goes over lines.
-type Editor struct{}
+type Editor struct{ machine *edit.Machine }
 
 // Feed takes bytes (P8).
-func (e *Editor) Feed(data string) api.Reply { return api.Reply{} }
+func (e *Editor) Feed(data string) api.Reply {
+	if e.idle() {
+		return api.Reply{}
+	}
+	return e.machine.Feed(data)
+}
 
 // End says that there are no more (P8).
-func (e *Editor) End() api.Reply { return api.Reply{} }
+func (e *Editor) End() api.Reply {
+	if e.idle() {
+		return api.Reply{}
+	}
+	return e.machine.End()
+}
 
 // Files tells what was written to names (P9).
-func (e *Editor) Files() []api.File { return nil }
+func (e *Editor) Files() []api.File {
+	if e.idle() {
+		return nil
+	}
+	return e.machine.Files()
+}
+
+// idle tells whether no program started this editor.
+func (e *Editor) idle() bool {
+	return e == nil || e.machine == nil
+}

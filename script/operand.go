@@ -8,30 +8,29 @@ import (
 	"ribbon/pattern"
 )
 
-// What may stand behind a backslash; in NEW the groups may, too.
+// What may stand behind a backslash; in NEW the PATTERN's groups may, too.
 const (
 	escapedText  = "nt\\"
 	escapedBytes = escapedText + "/"
 	escapedNew   = escapedBytes + "&"
 )
 
-// groupDigits are those of all groups that a PATTERN can have.
-const groupDigits = "123456789"
-
 func (r *reader) nothing(*Command) {}
 
 func (r *reader) open(*Command) {
-	if r.depth == api.MaxNest {
+	if len(r.blocks) == api.MaxNest {
 		panic(fault.Fault{Err: api.ErrNest, Place: r.At - 1})
 	}
-	r.depth++
+	r.blocks = append(r.blocks, len(r.script.Commands))
 }
 
 func (r *reader) shut(*Command) {
-	if r.depth == 0 {
+	last := len(r.blocks) - 1
+	if last < 0 {
 		panic(fault.Fault{Err: api.ErrNest, Place: r.At - 1})
 	}
-	r.depth--
+	r.script.Commands[r.blocks[last]].Goal = len(r.script.Commands)
+	r.blocks = r.blocks[:last]
 }
 
 func (r *reader) label(c *Command) {
@@ -44,15 +43,21 @@ func (r *reader) label(c *Command) {
 
 func (r *reader) branch(c *Command) {
 	r.blanks()
-	if !r.seesWord() {
-		return
+	if r.seesWord() {
+		c.Label = r.word()
 	}
-	c.Label = r.word()
-	r.wanted = append(r.wanted, goal{c.Label, r.At - len(c.Label)})
+	r.wanted = append(r.wanted, goal{len(r.script.Commands), r.At - len(c.Label)})
 }
 
 func (r *reader) file(c *Command) {
 	c.Name = r.word()
+	at, ok := r.names[c.Name]
+	if !ok {
+		at = len(r.script.Names)
+		r.names[c.Name] = at
+		r.script.Names = append(r.script.Names, c.Name)
+	}
+	c.File = at
 }
 
 func (r *reader) status(c *Command) {
@@ -87,21 +92,48 @@ func (r *reader) seesWord() bool {
 func (r *reader) text(c *Command) {
 	r.blanks()
 	from := r.At
+	var plain []byte
 	for !r.Ended() && !r.Sees('\n') {
-		r.part(escapedText)
+		plain = append(plain, r.part(escapedText))
 	}
-	c.Text = r.Source[from:r.At]
+	c.Text = Written{r.Source[from:r.At], string(plain)}
 }
 
 func (r *reader) replace(c *Command) {
 	c.Replace.Pattern = r.pattern()
-	escaped := escapedNew + groupDigits[:c.Replace.Pattern.Groups()]
-	from := r.At
-	for !r.shutPart() {
-		r.part(escaped)
-	}
-	c.Replace.New = r.Source[from : r.At-1]
+	c.Replace.New = r.newText(c.Replace.Pattern.Groups())
 	r.flags(c)
+}
+
+// newText reads a NEW and the `/` behind it.
+func (r *reader) newText(groups int) New {
+	from := r.At
+	var plain []byte
+	var holes []Hole
+	for !r.shutPart() {
+		if group, ok := r.hole(groups); ok {
+			holes = append(holes, Hole{len(plain), group})
+		} else {
+			plain = append(plain, r.part(escapedNew))
+		}
+	}
+	return New{Written{r.Source[from : r.At-1], string(plain)}, holes}
+}
+
+// hole goes past a hole of a NEW, if one stands here, and tells what fills it.
+func (r *reader) hole(groups int) (group int, ok bool) {
+	if r.Take('&') {
+		return 0, true
+	}
+	if !r.Sees('\\') || r.At+1 == len(r.Source) {
+		return 0, false
+	}
+	group = int(r.Source[r.At+1]) - '0'
+	if group < 1 || group > groups {
+		return 0, false
+	}
+	r.At += 2
+	return group, true
 }
 
 // flags leaves what is none, or one that was there, to be refused as what may not stand behind a command.
@@ -115,7 +147,7 @@ func (r *reader) flags(c *Command) {
 		case c.Replace.Number == 0 && r.SeesDigit():
 			c.Replace.Number = r.number(1, api.MaxNumber)
 		case r.Take('w'):
-			c.Name = r.word()
+			r.file(c)
 			return
 		default:
 			return
@@ -125,18 +157,15 @@ func (r *reader) flags(c *Command) {
 
 func (r *reader) exchange(c *Command) {
 	r.Expect('/')
-	from := r.At
-	count := r.bytesFrom()
-	c.Exchange.From = r.Source[from : r.At-1]
-	from = r.At
-	r.bytesTo(count)
-	c.Exchange.To = r.Source[from : r.At-1]
+	c.Exchange.From = r.bytesFrom()
+	c.Exchange.To = r.bytesTo(len(c.Exchange.From.Plain))
 }
 
-// bytesFrom reads the first BYTES of a `y`, and tells how many these are.
-func (r *reader) bytesFrom() int {
+// bytesFrom reads the first BYTES of a `y`, of which none may stand there twice.
+func (r *reader) bytesFrom() Written {
+	from := r.At
 	var there [256]bool
-	count := 0
+	var plain []byte
 	for !r.shutPart() {
 		at := r.At
 		b := r.part(escapedBytes)
@@ -145,23 +174,26 @@ func (r *reader) bytesFrom() int {
 			r.GiveUp()
 		}
 		there[b] = true
-		count++
+		plain = append(plain, b)
 	}
-	return count
+	return Written{r.Source[from : r.At-1], string(plain)}
 }
 
 // bytesTo reads the second BYTES of a `y`, which must be as many as the first.
-func (r *reader) bytesTo(count int) {
-	for ; !r.shutPart(); count-- {
-		if count == 0 {
+func (r *reader) bytesTo(count int) Written {
+	from := r.At
+	var plain []byte
+	for !r.shutPart() {
+		if len(plain) == count {
 			r.GiveUp()
 		}
-		r.part(escapedBytes)
+		plain = append(plain, r.part(escapedBytes))
 	}
-	if count > 0 {
+	if len(plain) < count {
 		r.At--
 		r.GiveUp()
 	}
+	return Written{r.Source[from : r.At-1], string(plain)}
 }
 
 // pattern reads a PATTERN and the `/` around it. The second one is looked for first, as no fault of the PATTERN is met ahead of it.

@@ -13,15 +13,16 @@ type reader struct {
 	cursor.Cursor
 	script   Script
 	operands map[byte]func(*reader, *Command)
-	depth    int            // how many blocks are open
+	blocks   []int          // the `{` of those that are open
 	labels   map[string]int // the commands that they stand at
+	names    map[string]int // where they stand in the script's
 	wanted   []goal
 }
 
-// goal is a label that a command goes to.
+// goal is a label that a command goes to, which is known only at the script's end.
 type goal struct {
-	label string
-	place int
+	command int
+	place   int
 }
 
 // Read reads a script. What it can not read it gives up by a panic with a fault.Fault.
@@ -35,6 +36,7 @@ func Read(source string) *Script {
 		Cursor:   cursor.Cursor{Source: own, Err: api.ErrScript},
 		operands: operands(),
 		labels:   map[string]int{},
+		names:    map[string]int{},
 	}
 	r.whole()
 	return &r.script
@@ -76,14 +78,25 @@ func (r *reader) whole() {
 	for r.between(); !r.Ended(); r.between() {
 		r.command()
 	}
-	if r.depth > 0 {
+	if len(r.blocks) > 0 {
 		panic(fault.Fault{Err: api.ErrNest, Place: r.At})
 	}
 	for _, g := range r.wanted {
-		if _, ok := r.labels[g.label]; !ok {
-			panic(fault.Fault{Err: api.ErrLabel, Place: g.place})
-		}
+		r.resolve(g)
 	}
+}
+
+func (r *reader) resolve(g goal) {
+	c := &r.script.Commands[g.command]
+	if c.Label == "" {
+		c.Goal = len(r.script.Commands)
+		return
+	}
+	at, ok := r.labels[c.Label]
+	if !ok {
+		panic(fault.Fault{Err: api.ErrLabel, Place: g.place})
+	}
+	c.Goal = at
 }
 
 // between goes past what may stand ahead of a command.
@@ -115,6 +128,10 @@ func (r *reader) blanks() {
 
 func (r *reader) command() {
 	c := Command{Addresses: r.addresses()}
+	if len(c.Addresses) == 2 {
+		c.Range = r.script.Ranges
+		r.script.Ranges++
+	}
 	r.blanks()
 	if r.Take('!') {
 		c.Not = true

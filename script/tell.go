@@ -53,13 +53,13 @@ func (c *Command) operand() string {
 	case 'w':
 		return apart(c.Name)
 	case 'a', 'i', 'c':
-		return apart(c.Text)
+		return apart(c.Text.Source)
 	case 'q':
 		return apart(number(c.Status))
 	case 's':
-		return "/" + c.Replace.Pattern.Source + "/" + c.Replace.New + "/" + c.flags()
+		return "/" + c.Replace.Pattern.Source + "/" + c.Replace.New.Source + "/" + c.flags()
 	case 'y':
-		return "/" + c.Exchange.From + "/" + c.Exchange.To + "/"
+		return "/" + c.Exchange.From.Source + "/" + c.Exchange.To.Source + "/"
 	}
 	return ""
 }
