@@ -117,6 +117,8 @@ func TestSpace(t *testing.T) {
 	}
 	// Only what comes of all places counts, not what is between.
 	goesOn(t, "s/.*/&&&&/;s/b|a+/xx/g", repeat("b", 100)+a(900)+"\n", repeat(repeat("xx", 101), 4)+"\n")
+	goesOn(t, "s/a/&&&&/g;s/(a)|b/\\1\\1/g", a(500)+"bbbb\n", a(4000)+"\n")
+	overBy(t, "s/a/&&&&/g;s/(a)|b/\\1\\1/g", a(500)+"bbcb\n", "", api.ErrSpace)
 	// What is not replaced is not too large.
 	goesOn(t, "s/.*/&&&&/;s/b/&&/;s/a/&&/4001", line, a(4000)+"\n")
 	// By `G` and `H`.
