@@ -640,3 +640,61 @@ func TestMadeCourses(t *testing.T) {
 func TestMadeCoursesAhead(t *testing.T) {
 	followMany(t, &scribe{Rand: rand.New(rand.NewSource(4)), ahead: true}, 8000, 1)
 }
+
+// ended is all that an editor answers in the end.
+type ended struct {
+	last  api.Reply // with all that was told
+	files []api.File
+}
+
+func goneOver(p *Program, pieces []string) ended {
+	e := p.Start()
+	out := ""
+	for _, piece := range pieces {
+		out += e.Feed(piece).Out
+	}
+	last := e.End()
+	last.Out = out + last.Out
+	return ended{last, e.Files()}
+}
+
+func (a ended) is(b ended) bool {
+	return a.last == b.last && slices.Equal(a.files, b.files)
+}
+
+// P1, P2, P8, P9: scripts of any kind over any bytes: no call panics, nothing hangs on the pieces, and what Text tells is the same script.
+func TestAnyScript(t *testing.T) {
+	s := &scribe{Rand: rand.New(rand.NewSource(5))}
+	asked := 0
+	for range 6000 {
+		text := pick(s.Rand, "", "#n\n") + madeScript(s.Rand, 1+s.Intn(4))
+		for _, label := range []string{":a", ":b", ":loop", ":12345678"} {
+			text = pick(s.Rand, label+"\n"+text, text+label+"\n")
+		}
+		p, err, _ := Compile(text)
+		again, _, _ := Compile(p.Text())
+		if err != api.OK || again == nil {
+			continue
+		}
+		asked++
+		input := s.input()
+		for range s.Intn(9) {
+			at := s.Intn(len(input) + 1)
+			input = input[:at] + string([]byte{byte(s.Intn(256))}) + input[at:]
+		}
+		want := goneOver(p, []string{input})
+		pieces := s.pieces(input)
+		if got := goneOver(p, pieces); !got.is(want) {
+			t.Fatalf("P8: %q fed with %q: %v, want %v", text, pieces, got, want)
+		}
+		if got := goneOver(again, []string{input}); !got.is(want) {
+			t.Fatalf("P6: %q, told anew, of %q: %v, want %v", text, input, got, want)
+		}
+		if !want.last.Over || want.last.Err != api.OK && want.last.Status != 0 {
+			t.Fatalf("P8: %q of %q ended with %v", text, input, want.last)
+		}
+	}
+	if asked < 5000 {
+		t.Errorf("too few were tried: %d", asked)
+	}
+}

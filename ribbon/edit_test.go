@@ -183,6 +183,14 @@ func TestWhere(t *testing.T) {
 	}
 }
 
+// P8: as many lines as can be numbered, and one more.
+func TestManyLines(t *testing.T) {
+	in := repeat("\n", api.MaxNumber)
+	gives(t, "1000000!d;s/^/x/", []string{in, "\n\n"}, api.Reply{Out: "x\n", Over: true})
+	gives(t, "#n\n1000000,1=;999999,1000000p", []string{in + "\n\n"}, api.Reply{Out: "\n1000000\n\n", Over: true})
+	gives(t, "1000000!d;=;q 7", []string{in + "\n\n"}, api.Reply{Out: "1000000\n\n", Over: true, Status: 7})
+}
+
 // Ranges: what is kept of them, and when they are looked at.
 func TestRanges(t *testing.T) {
 	in := lines("1 2 3 4 5 6")
@@ -282,6 +290,10 @@ func TestPlaces(t *testing.T) {
 	} {
 		edits(t, c.script, c.in+"\n", c.out+"\n")
 	}
+	// All is bytes.
+	edits(t, "s/./x/g", "\u00e9\xff\x00\r\n", "xxxxx\n")
+	edits(t, "s/[^a]/x/2", "a\xc3\xa9\n", "a\xc3x\n")
+	edits(t, "s/\xa9*/-/g", "\xc3\xa9\n", "-\xc3-\n")
 	// A newline within the space is neither its beginning nor its end, and is any byte.
 	edits(t, "s/b/\\n/;s/^/</g;s/$/>/g", "abc\n", "<a\nc>\n")
 	edits(t, "s/b/\\n/;s/^c/x/;s/a$/x/;s/\\n./-/", "abc\n", "a-\n")
