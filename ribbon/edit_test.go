@@ -51,9 +51,13 @@ func quits(t *testing.T, script, input, out string, status int) {
 	t.Helper()
 	want := api.Reply{Out: out, Over: true, Status: status}
 	gives(t, script, []string{input}, want)
-	gives(t, script, strings.Split(input, ""), want)
+	var bytes []string
+	for i := range len(input) {
+		bytes = append(bytes, input[i:i+1])
+	}
+	gives(t, script, bytes, want)
 	gives(t, script, []string{"", input, "", ""}, want)
-	for i := range input {
+	for i := range len(input) {
 		gives(t, script, []string{input[:i], input[i:]}, want)
 	}
 }
@@ -137,7 +141,11 @@ func TestEachCommand(t *testing.T) {
 		if c.script[0] == ':' {
 			continue
 		}
-		edits(t, "1,2"+c.script, in, map[bool]string{true: c.out, false: "x\n"}[c.script != "c x"])
+		if c.script == "c x" {
+			edits(t, "1,2"+c.script, in, "x\n")
+		} else {
+			edits(t, "1,2"+c.script, in, c.out)
+		}
 		edits(t, "3!"+c.script, in, c.out)
 		edits(t, "/x/ !  "+c.script, in, c.out)
 		edits(t, "!"+c.script, in, in)
