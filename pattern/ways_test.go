@@ -221,9 +221,9 @@ func (m *maker) text() string {
 	return all.String()
 }
 
-// find tells what the document says of Match; ok is false if there are too many ways to say.
-func find(p part, groups int, text string) (list []int, ok bool) {
-	for from := 0; from <= len(text); from++ {
+// find tells what the document says of Match, from a place on; ok is false if there are too many ways to say.
+func find(p part, groups int, text string, from int) (list []int, ok bool) {
+	for ; from <= len(text); from++ {
 		g := going{text: text}
 		best := noted(from)
 		p.ways(&g, from, noted(from), func(to int, n notes) {
@@ -240,6 +240,56 @@ func find(p part, groups int, text string) (list []int, ok bool) {
 		}
 	}
 	return nil, true
+}
+
+// findAll tells what the document says of places, one behind the other.
+func findAll(p part, groups int, text string) (all [][]int, ok bool) {
+	for from, end := 0, -1; ; {
+		list, ok := find(p, groups, text, from)
+		if !ok || list == nil {
+			return all, ok
+		}
+		if list[0] == end && list[1] == end {
+			from = end + 1
+			continue
+		}
+		all = append(all, slices.Clone(list))
+		from, end = list[1], list[1]
+	}
+}
+
+// P8: all places are what the ways, gone over one by one from the end of the one ahead, tell.
+func TestPlacesOneByOne(t *testing.T) {
+	m := maker{Rand: rand.New(rand.NewSource(8))}
+	asked, places := 0, 0
+	for range 20000 {
+		m.groups = 0
+		p := m.forks(3)
+		source := p.source()
+		if len(source) > api.MaxPattern || p.weight() > api.MaxSize {
+			continue
+		}
+		read := Read(source, 0)
+		for range 4 {
+			text := m.text() + m.text()
+			want, ok := findAll(p, m.groups, text)
+			if !ok {
+				continue
+			}
+			var got [][]int
+			for place := range read.Places(text) {
+				got = append(got, slices.Clone(place))
+			}
+			asked++
+			places += len(want)
+			if !slices.EqualFunc(got, want, slices.Equal[[]int]) {
+				t.Fatalf("P8: %q in %q: %v, want %v", source, text, got, want)
+			}
+		}
+	}
+	if asked < 50000 || places < 2*asked {
+		t.Errorf("too few were tried: %d asked, %d places", asked, places)
+	}
 }
 
 func sizeFault(source string) (given fault.Fault) {
@@ -269,7 +319,7 @@ func TestWaysOneByOne(t *testing.T) {
 		read := Read(source, 0)
 		for range 4 {
 			text := m.text()
-			want, ok := find(p, m.groups, text)
+			want, ok := find(p, m.groups, text, 0)
 			if !ok {
 				continue
 			}
