@@ -33,11 +33,10 @@ type finder struct {
 	*Pattern
 	text  string
 	place int
-	turn  int // how many places were gone through; one may be again, when more is looked for
 	here  []thread
 	ahead []thread // those that took the byte at this place
 	left  []thread // ways not gone yet at this place, the next one last
-	seen  []int    // for each instruction and taken: the turn in which it was met last
+	seen  []uint64 // a bit for each place, instruction and taken: were they met?
 	found bool
 	best  notes
 }
@@ -53,14 +52,10 @@ func (p *Pattern) Find(text string) []int {
 // Places goes over all that is found in the text, one behind the other, and tells of each what Find tells of the first. Such a list is good until the next one comes.
 func (p *Pattern) Places(text string) iter.Seq[[]int] {
 	return func(yield func([]int) bool) {
-		f := finder{Pattern: p, text: text, seen: make([]int, len(p.code)*(p.deepest+1))}
-		from, end := 0, -1
-		for f.search(from) {
-			if f.best[0] == end && f.best[1] == end {
-				from = end + 1
-				continue
-			}
-			from, end = f.best[1], f.best[1]
+		states := (len(text) + 1) * len(p.code) * (p.deepest + 1)
+		f := finder{Pattern: p, text: text, seen: make([]uint64, states/64+1)}
+		// An empty place just at the end of the one ahead is none, and is not found: that end was met.
+		for from := 0; f.search(from); from = f.best[1] {
 			if !yield(f.best[:2+2*p.groups]) {
 				return
 			}
@@ -84,7 +79,6 @@ func (f *finder) search(from int) bool {
 }
 
 func (f *finder) goOn() {
-	f.turn++
 	for i := range f.here {
 		// What began behind the place of something found can not better it.
 		if f.found && f.here[i].notes[0] > f.best[0] {
@@ -107,12 +101,15 @@ func (f *finder) follow(t thread) {
 }
 
 // first tells whether no way ahead of this one came here: another one could go on only as that does.
+//
+// What was met when the places ahead were looked for counts, too, lest the text be gone over anew for each of them. Behind such a place's end it led nowhere, else the place would be longer; just at its end it leads to an empty place there at most, which is none.
 func (f *finder) first(t *thread) bool {
-	seen := &f.seen[t.at*(f.deepest+1)+t.taken]
-	if *seen == f.turn {
+	state := (f.place*len(f.code)+t.at)*(f.deepest+1) + t.taken
+	word, bit := &f.seen[state/64], uint64(1)<<(state%64)
+	if *word&bit != 0 {
 		return false
 	}
-	*seen = f.turn
+	*word |= bit
 	return true
 }
 

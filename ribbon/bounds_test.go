@@ -92,6 +92,10 @@ func TestSteps(t *testing.T) {
 	overBy(t, "p;:a;b a", "x\n", "x\n", api.ErrSteps)
 	overBy(t, "a never\ni y\n:a;b a", "x\nz\n", "y\n", api.ErrSteps)
 	overBy(t, "2{:a;b a\n}", "x\nz\nx\n", "x\n", api.ErrSteps)
+	// Each of these steps looks for 4000 places, with a way to the end of the space from each; they end soon all the same.
+	if r := started(t, "s/.*/&&&&/;:a;s/a|a.*b/a/g;ba").Feed(repeat("a", 1000) + "\n"); r != (api.Reply{Over: true, Err: api.ErrSteps}) {
+		t.Errorf("P8: %d, %v, want error %d", r.Err, r.Over, api.ErrSteps)
+	}
 	// By an End, too.
 	gives(t, "p;:a;b a", []string{"x"}, api.Reply{Out: "x\n", Over: true, Err: api.ErrSteps})
 }
