@@ -5,25 +5,15 @@ import (
 	"ribbon/script"
 )
 
-// begun tells whether the machine is within a cycle; it begins one, if a line is there.
-func (m *Machine) begun() bool {
-	if m.within {
-		return true
-	}
-	line, there := m.input.next()
-	if !there {
-		return false
-	}
-	m.number++
-	m.space = line
+// beginWith begins a cycle with a line.
+func (m *Machine) beginWith(line string) {
 	m.steps = 0
-	m.begin()
-	return true
+	m.begin(line)
 }
 
-// begin begins a cycle with the space as it is. The steps are not counted anew, as this may be a cycle that read no line.
-func (m *Machine) begin() {
-	m.within = true
+// begin begins a cycle with a space. The steps are not counted anew, as this may be a cycle that read no line.
+func (m *Machine) begin(space string) {
+	m.space = space
 	m.at = 0
 	m.replaced = false
 }
@@ -93,13 +83,13 @@ func (m *Machine) ranged(c *script.Command) bool {
 // endCycle ends the cycle, and tells what comes of it.
 func (m *Machine) endCycle() {
 	m.tellEnd()
-	m.within = false
+	m.wants = (*Machine).beginWith
 }
 
 // dropCycle ends the cycle, and tells nothing of the space.
 func (m *Machine) dropCycle() {
 	m.tellBrought()
-	m.within = false
+	m.wants = (*Machine).beginWith
 }
 
 func (m *Machine) tellEnd() {
@@ -119,19 +109,4 @@ func (m *Machine) tellBrought() {
 func (m *Machine) endAll(status int) {
 	m.endCycle()
 	m.over, m.status = true, status
-}
-
-// more reads a line for a command that wants one in the middle of a cycle, if there is one. If it is not there yet, the machine is left in this command.
-func (m *Machine) more(c *script.Command) (line string, there bool) {
-	if m.input.none() {
-		m.endAll(0)
-		return "", false
-	}
-	line, there = m.input.next()
-	if there {
-		m.number++
-	} else {
-		m.waits = c
-	}
-	return line, there
 }

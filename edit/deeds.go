@@ -73,11 +73,12 @@ func (m *Machine) drop(*script.Command) {
 
 func (m *Machine) dropFirst(*script.Command) {
 	_, rest, more := strings.Cut(m.space, "\n")
-	m.dropCycle()
-	if more {
-		m.space = rest
-		m.begin()
+	if !more {
+		m.dropCycle()
+		return
 	}
+	m.tellBrought()
+	m.begin(rest)
 }
 
 func (m *Machine) get(*script.Command) {
@@ -100,18 +101,32 @@ func (m *Machine) swap(*script.Command) {
 	m.space, m.held = m.held, m.space
 }
 
-func (m *Machine) next(c *script.Command) {
-	if line, there := m.more(c); there {
-		m.tellEnd()
-		m.space = line
+// next tells ahead of the line that it wants: that there is one is known, though it may have to be waited for.
+func (m *Machine) next(*script.Command) {
+	if m.input.none() {
+		m.endAll(0)
+		return
 	}
+	m.tellEnd()
+	m.wants = (*Machine).goOnWith
 }
 
-func (m *Machine) nextBehind(c *script.Command) {
-	if line, there := m.more(c); there {
-		m.tellBrought()
-		m.space = joined(m.space, line)
+func (m *Machine) goOnWith(line string) {
+	m.space = line
+}
+
+// nextBehind tells ahead of the line that it wants, as next does.
+func (m *Machine) nextBehind(*script.Command) {
+	if m.input.none() {
+		m.endAll(0)
+		return
 	}
+	m.tellBrought()
+	m.wants = (*Machine).goOnWithMore
+}
+
+func (m *Machine) goOnWithMore(line string) {
+	m.space = joined(m.space, line)
 }
 
 func (m *Machine) print(*script.Command) {

@@ -7,7 +7,7 @@ import (
 	"ribbon/script"
 )
 
-// Machine does what a script says, as far as its input goes. It can be left at any time at which a line is wanted that is not there yet, and goes on where it was.
+// Machine does what a script says, as far as its input goes. It can be left wherever a line is wanted that is not there yet, between cycles or in the middle of one, and goes on from there.
 type Machine struct {
 	script *script.Script
 	deeds  map[byte]func(*Machine, *script.Command)
@@ -19,12 +19,11 @@ type Machine struct {
 	held   string
 	ranges []bool // which of the script's go on
 
-	within   bool            // a cycle
-	at       int             // the command that is looked at next
-	steps    int             // since a cycle began that read a line
-	replaced bool            // since this one began, and since the last `t` that went
-	brought  []string        // by `a`, and not told yet
-	waits    *script.Command // the one that the machine was left in
+	wants    func(*Machine, string) // what is done with the line that is wanted; nil, if none is
+	at       int                    // the command that is looked at next
+	steps    int                    // since a cycle began that read a line
+	replaced bool                   // since this one began, and since the last `t` that went
+	brought  []string               // by `a`, and not told yet
 
 	over   bool
 	err    api.Errno
@@ -39,6 +38,7 @@ func New(s *script.Script) *Machine {
 		input:   input{ahead: s.Ahead()},
 		journal: journal{files: make([][]byte, len(s.Names))},
 		ranges:  make([]bool, s.Ranges),
+		wants:   (*Machine).beginWith,
 	}
 }
 
@@ -56,7 +56,7 @@ func (m *Machine) End() api.Reply {
 	if !m.over {
 		m.input.ended = true
 		m.run()
-		// No lines are left, and so nothing is waited for.
+		// No lines are left, and in the middle of a cycle none is wanted where there is none.
 		m.over = true
 	}
 	return m.reply()
@@ -91,18 +91,25 @@ func (m *Machine) run() {
 			panic(given)
 		}
 	}()
-	m.resume()
-	for !m.over && m.waits == nil && m.begun() {
+	for !m.over && m.supplied() {
 		m.look()
 	}
 }
 
-// resume goes on with the command that the machine was left in, which was looked at then.
-func (m *Machine) resume() {
-	if c := m.waits; c != nil {
-		m.waits = nil
-		m.deeds[c.What](m, c)
+// supplied reads the line that is wanted, if one is; it tells whether the machine can go on.
+func (m *Machine) supplied() bool {
+	if m.wants == nil {
+		return true
 	}
+	line, there := m.input.next()
+	if !there {
+		return false
+	}
+	m.number++
+	take := m.wants
+	m.wants = nil
+	take(m, line)
+	return true
 }
 
 func giveUp(err api.Errno) {

@@ -330,17 +330,15 @@ func (c *course) do(d deed) {
 }
 
 func (c *course) next(what byte) {
-	line, ok := c.line()
-	switch {
-	case !ok:
+	if c.says("$") {
 		c.quit(0)
-	case what == 'n':
-		c.tellEnd(true)
-		c.space = line
-	default:
-		c.tellEnd(false)
-		c.space = c.fits(c.space + "\n" + line)
 	}
+	c.tellEnd(what == 'n')
+	line, _ := c.line()
+	if what == 'N' {
+		line = c.fits(c.space + "\n" + line)
+	}
+	c.space = line
 }
 
 func (c *course) list() {

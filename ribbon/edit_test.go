@@ -174,21 +174,26 @@ func TestWhere(t *testing.T) {
 		{"/b/,/b/", "b ab abc"}, {"/a/,/a/", "a b ab abc"}, {"/c/,/a/", "c abc"}, {"/x/,/a/", ""}, {"/a/,//", "a b ab c abc"}, {"//,//", "a b ab c abc"},
 		{"/a/,1", "a ab abc"}, {"/a/,2", "a b ab abc"}, {"/a/,3", "a b ab abc"}, {"/a/,4", "a b ab c abc"}, {"/ab/,4", "ab c abc"}, {"/c/,1", "c abc"},
 	} {
-		quiet, loud := "#n\n"+c.address+"p", c.address+"!d"
-		want := strings.Join(append(strings.Fields(c.out), ""), "\n")
-		edits(t, quiet, in, want)
-		edits(t, loud, in, want)
-		edits(t, c.address+"{b;};d", in, want)
-		rest := ""
-		for _, word := range strings.Fields(in) {
-			if !slices.Contains(strings.Fields(c.out), word) {
-				rest += word + "\n"
-			}
-		}
-		edits(t, c.address+"d", in, rest)
-		edits(t, "#n\n"+c.address+"!p", in, rest)
-		edits(t, "#n\n"+c.address+"!{p\n}", in, rest)
+		chooses(t, c.address, in, c.out)
 	}
+}
+
+// chooses holds an address against the lines of an input, which differ from each other, at which a command is done.
+func chooses(t *testing.T, address, in, out string) {
+	t.Helper()
+	want := strings.Join(append(strings.Fields(out), ""), "\n")
+	edits(t, "#n\n"+address+"p", in, want)
+	edits(t, address+"!d", in, want)
+	edits(t, address+"{b;};d", in, want)
+	rest := ""
+	for _, word := range strings.Fields(in) {
+		if !slices.Contains(strings.Fields(out), word) {
+			rest += word + "\n"
+		}
+	}
+	edits(t, address+"d", in, rest)
+	edits(t, "#n\n"+address+"!p", in, rest)
+	edits(t, "#n\n"+address+"!{p\n}", in, rest)
 }
 
 // P8: as many lines as can be numbered, and one more.
